@@ -1,0 +1,1 @@
+"""Leastjournal: time travel with the smallest possible journal."""

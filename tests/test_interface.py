@@ -1,0 +1,79 @@
+"""Point 2 and the interface: names, arguments, and the files that define them."""
+
+import ast
+import inspect
+import pathlib
+import unittest
+
+from leastjournal import errors, field, programs
+
+PACKAGE = pathlib.Path(__file__).resolve().parent.parent / "leastjournal"
+
+FUNCTIONS = {
+    field: {
+        "is_prime": ("value",),
+        "inverse": ("p", "a"),
+        "rank": ("p", "rows"),
+        "weights": ("p", "rows", "row"),
+    },
+    programs: {
+        "is_program": ("p", "n", "value"),
+        "size": ("program",),
+        "depth": ("program",),
+        "step_count": ("program",),
+        "read_count": ("program",),
+        "write_count": ("program",),
+        "locate": ("program", "step"),
+        "reads_before": ("program", "moment"),
+        "last_assignment": ("program", "moment", "x"),
+    },
+}
+
+CLASSES = {
+    errors: (
+        "JournalError",
+        "BadField",
+        "BadRegisters",
+        "BadProgram",
+        "BadInputs",
+        "BadMoment",
+        "BadRegister",
+        "BadState",
+        "BadText",
+        "BadCommand",
+        "TooLong",
+        "TooDeep",
+        "NoStep",
+        "NotEnough",
+    ),
+}
+
+
+def defined(module, kind):
+    """Return the names that the file of a module defines at module level."""
+    tree = ast.parse(pathlib.Path(module.__file__).read_text(encoding="utf-8"))
+    return [node.name for node in tree.body if isinstance(node, kind)]
+
+
+class InterfaceTest(unittest.TestCase):
+    def test_functions_and_their_arguments(self):
+        for module, functions in FUNCTIONS.items():
+            for name, arguments in functions.items():
+                self.assertIn(name, defined(module, ast.FunctionDef))
+                parameters = inspect.signature(getattr(module, name)).parameters.values()
+                self.assertEqual(tuple(one.name for one in parameters), arguments, name)
+                for one in parameters:
+                    self.assertEqual(one.kind, inspect.Parameter.POSITIONAL_OR_KEYWORD)
+
+    def test_classes(self):
+        for module, names in CLASSES.items():
+            for name in names:
+                self.assertIn(name, defined(module, ast.ClassDef))
+
+    def test_modules_are_files_of_the_package(self):
+        for module in (*FUNCTIONS, *CLASSES):
+            self.assertEqual(pathlib.Path(module.__file__).resolve().parent, PACKAGE)
+
+
+if __name__ == "__main__":
+    unittest.main()
