@@ -5,7 +5,7 @@ import inspect
 import pathlib
 import unittest
 
-from leastjournal import errors, field, programs
+from leastjournal import errors, field, forms, losses, machine, programs, runs
 
 PACKAGE = pathlib.Path(__file__).resolve().parent.parent / "leastjournal"
 
@@ -27,6 +27,22 @@ FUNCTIONS = {
         "reads_before": ("program", "moment"),
         "last_assignment": ("program", "moment", "x"),
     },
+    runs: {
+        "run": ("p", "program", "registers", "inputs"),
+    },
+    forms: {
+        "forms": ("p", "n", "program", "moment"),
+        "state_at": ("p", "program", "registers", "inputs", "moment"),
+        "outputs_at": ("p", "program", "registers", "inputs", "moment"),
+    },
+    losses: {
+        "loss": ("p", "n", "program", "moment"),
+        "pushes": ("p", "n", "program", "moment"),
+        "recovery": ("p", "n", "program", "step"),
+    },
+    machine: {
+        "resume": ("p", "program", "state"),
+    },
 }
 
 CLASSES = {
@@ -46,6 +62,26 @@ CLASSES = {
         "NoStep",
         "NotEnough",
     ),
+    machine: ("Machine",),
+}
+
+METHODS = {
+    machine.Machine: {
+        "__init__": ("self", "p", "program", "registers", "inputs"),
+        "__len__": ("self",),
+        "__eq__": ("self", "other"),
+        "now": ("self",),
+        "registers": ("self",),
+        "journal": ("self",),
+        "pending": ("self",),
+        "outputs": ("self",),
+        "snapshot": ("self",),
+        "step": ("self",),
+        "back": ("self",),
+        "goto": ("self", "moment"),
+        "peek": ("self", "x", "moment"),
+        "last_assignment": ("self", "x"),
+    },
 }
 
 
@@ -69,6 +105,12 @@ class InterfaceTest(unittest.TestCase):
         for module, names in CLASSES.items():
             for name in names:
                 self.assertIn(name, defined(module, ast.ClassDef))
+
+    def test_methods_stand_in_their_class(self):
+        for kind, methods in METHODS.items():
+            for name, arguments in methods.items():
+                self.assertEqual(tuple(inspect.signature(vars(kind)[name]).parameters), arguments, name)
+        self.assertEqual(inspect.signature(machine.Machine).parameters["inputs"].default, ())
 
     def test_modules_are_files_of_the_package(self):
         for module in (*FUNCTIONS, *CLASSES):
