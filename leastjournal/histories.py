@@ -7,11 +7,7 @@ from leastjournal.tracks import product
 
 
 def history_of(track, program, moment, registers, journal):
-    """Return the initial registers and the inputs read before the moment.
-
-    None if no history leads to these registers with as many journal entries. The values of the journal may
-    still be such that only another snapshot follows from the history: the caller has to compare.
-    """
+    """Return the initial registers and the inputs read before the moment, None if no history leads there."""
     flow = zero_flow(track)
     flow.advance(moment)
     if len(flow.pushed) != len(journal):
@@ -19,6 +15,7 @@ def history_of(track, program, moment, registers, journal):
     cells = list(registers)
     inputs = []
     for index, (before, after) in reversed(list(enumerate(stretches(track, moment, flow.pushed)))):
+        # There are such weights exactly if some history has these registers at the end of the stretch.
         found = weights(track.p, after, [1, *cells])
         if found is None:
             return None

@@ -147,7 +147,7 @@ def step_matrix(p, n, instruction):
 
 
 def length(instruction):
-    """Return how many steps an instruction executes."""
+    """Return how many steps an instruction executes, by sums and products."""
     if instruction[0] == "loop":
         return instruction[1] * sum(length(part) for part in instruction[2])
     return 1

@@ -33,6 +33,14 @@ BARRED_NODES = (
 )
 
 
+BUILTIN_METHODS = set(
+    "append clear copy count endswith extend find get index insert isalnum isalpha isdigit islower isspace isupper items"
+    " join keys ljust lower lstrip partition pop remove replace reverse rfind rjust rpartition rsplit rstrip setdefault"
+    " split splitlines startswith strip update upper values zfill bit_length".split()
+)
+LIST_TAKERS = ("any", "all", "min", "max", "sum", "sorted")
+
+
 def package_files():
     return sorted(path for path in PACKAGE.iterdir() if path.name != "__pycache__")
 
@@ -55,6 +63,23 @@ def bound_names(tree):
 def each_tree():
     """Return (path, tree) for each file of the package."""
     return [(path, ast.parse(path.read_text(encoding="ascii"))) for path in package_files()]
+
+
+def methods_and_attributes():
+    """Return the names of all methods, and of all attributes that are assigned."""
+    methods, attributes = set(), set()
+    for _, tree in each_tree():
+        for node in ast.walk(tree):
+            if isinstance(node, ast.ClassDef):
+                methods.update(part.name for part in node.body if isinstance(part, ast.FunctionDef))
+            elif isinstance(node, ast.Attribute) and isinstance(node.ctx, ast.Store):
+                attributes.add(node.attr)
+    return methods, attributes
+
+
+def local_names(function):
+    """Return the parameters and the names that a function assigns."""
+    return bound_names(ast.Module(body=[function.args, *function.body], type_ignores=[]))
 
 
 class LanguageTest(unittest.TestCase):
@@ -120,6 +145,49 @@ class LanguageTest(unittest.TestCase):
             for node in ast.walk(tree):
                 if isinstance(node, ast.Name) and node.id not in own:
                     self.assertIn(node.id, ALLOWED_BUILTINS, (path, node.lineno))
+
+    def test_methods_and_attributes_have_unlike_names(self):
+        methods, attributes = methods_and_attributes()
+        self.assertEqual(methods & attributes, set())
+        for kind in (str, int, list, dict, set, bytes, tuple):
+            self.assertEqual({name for name in methods | attributes if hasattr(kind, name)} - set(SPECIAL_METHODS), set())
+
+    def test_attributes_that_are_read_and_methods_that_are_called(self):
+        methods, attributes = methods_and_attributes()
+        for path, tree in each_tree():
+            called = [node.func for node in ast.walk(tree) if isinstance(node, ast.Call)]
+            for node in ast.walk(tree):
+                if isinstance(node, ast.Attribute):
+                    known = methods | BUILTIN_METHODS if node in called else attributes
+                    self.assertIn(node.attr, known, (path, node.lineno))
+
+    def test_local_names_are_not_imports_or_classes(self):
+        for path, tree in each_tree():
+            taken = {node.name for node in tree.body if isinstance(node, ast.ClassDef)}
+            taken.update(alias.name for node in tree.body if isinstance(node, ast.ImportFrom) for alias in node.names)
+            for node in ast.walk(tree):
+                if isinstance(node, ast.FunctionDef):
+                    self.assertEqual(taken & set(local_names(node)), set(), (path, node.name))
+
+    def test_calls_and_comparisons(self):
+        for path, tree in each_tree():
+            for node in ast.walk(tree):
+                if isinstance(node, ast.Call) and isinstance(node.func, ast.Name) and node.func.id in LIST_TAKERS:
+                    self.assertNotIsInstance(node.args[0], ast.GeneratorExp, (path, node.lineno))
+                if isinstance(node, ast.Compare):
+                    for sign, right in zip(node.ops, node.comparators):
+                        if isinstance(sign, (ast.Is, ast.IsNot)):
+                            self.assertIsInstance(right, ast.Constant, (path, node.lineno))
+
+    def test_no_two_files_import_from_each_other(self):
+        below = {}
+        for path, tree in each_tree():
+            below[path.stem] = {node.module.split(".")[1] for node in tree.body if isinstance(node, ast.ImportFrom)}
+        while below:
+            free = [name for name, needs in below.items() if not needs & set(below)]
+            self.assertNotEqual(free, [], below)
+            for name in free:
+                del below[name]
 
 
 if __name__ == "__main__":

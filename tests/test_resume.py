@@ -120,6 +120,18 @@ class ResumeTest(unittest.TestCase):
                         taken += 1
         self.assertGreater(min(taken, refused), 500)
 
+    def test_several_reads_without_a_push(self):
+        program = (("set", 0, 0), ("set", 1, 0), ("set", 2, 0), ("read", 2), ("read", 0), ("add", 2, 0, 3), ("read", 1))
+        m = Machine(7, program, (4, 5, 6), (1, 2, 3))
+        m.goto(7)
+        self.assertEqual(m.snapshot(), (7, (2, 3, 0), (4, 5, 6), ()))
+        self.assertTrue(resume(7, program, m.snapshot()) == m)
+        program += (loop(3, *program),)
+        m = Machine(7, program, (4, 5, 6), (1, 2, 3) * 4)
+        for moment in range(step_count(program) + 1):
+            m.goto(moment)
+            self.assertTrue(resume(7, program, m.snapshot()) == m)
+
     def test_impossible_states(self):
         for state in (
             (0, (4, 3), (2,), ()),

@@ -6,15 +6,9 @@ import unittest
 from leastjournal.errors import BadMoment
 from leastjournal.programs import last_assignment, locate, reads_before, step_count
 from tests.helpers import GREAT, JUNK, READ, SET, deep_junk, frozen, loop, random_program, small_programs, walk
+from tests.reference import length
 
 DOC_LOOP = (("loop", 10 ** 18, (("copy", 2, 1), ("copy", 1, 0), ("set", 0, 0))),)
-
-
-def length(instruction):
-    """Return how many steps an instruction executes, by sums and products."""
-    if instruction[0] == "loop":
-        return instruction[1] * sum(length(part) for part in instruction[2])
-    return 1
 
 
 def step_of(program, path):
