@@ -9,6 +9,11 @@ def is_between(value, low, high):
     return isinstance(value, int) and not isinstance(value, bool) and low <= value <= high
 
 
+def are_cells(p, value):
+    """Whether any value is a tuple of field elements."""
+    return isinstance(value, tuple) and all([is_between(part, 0, p - 1) for part in value])
+
+
 def is_prime(value):
     """Whether any value is a prime from 2 to 10007."""
     if not is_between(value, LEAST_PRIME, GREATEST_PRIME):
@@ -84,3 +89,8 @@ def times(p, factor, row):
 def less(p, row, factor, other):
     """Return row less factor times other."""
     return [(a - factor * b) % p for a, b in zip(row, other)]
+
+
+def dot(p, row, other):
+    """Return the sum of the products of the numbers of two rows."""
+    return sum([a * b for a, b in zip(row, other)]) % p

@@ -2,7 +2,7 @@
 
 from leastjournal.field import echelon, rank
 from leastjournal.runs import Runner
-from leastjournal.steps import executed, overwritten, unit
+from leastjournal.steps import cleared, executed, overwritten, unit
 from leastjournal.tracks import pieces
 
 
@@ -65,10 +65,10 @@ class Flow:
 
     def overwrite(self, step, x):
         """Clear register x in all directions; push its value if a direction is lost by that."""
-        cleared = [row[:x + 1] + [0] + row[x + 2:] for row in self.directions]
-        basis = echelon(self.track.p, cleared)
-        if len(basis) == len(cleared):
-            self.directions = cleared
+        kept = [cleared(row, x) for row in self.directions]
+        basis = echelon(self.track.p, kept)
+        if len(basis) == len(kept):
+            self.directions = kept
             return
         self.directions = list(basis.values())
         self.pushed.append((step, x))

@@ -38,9 +38,14 @@ def outputs_at(p, program, registers, inputs, moment):
 def runner_at(track, registers, inputs, moment):
     """Return the runner of one history at a moment."""
     runner = Runner(track.p, registers, inputs)
-    for step, part, rounds in pieces(track, 0, moment):
+    carry(runner, track, 0, moment)
+    return runner
+
+
+def carry(runner, track, start, stop):
+    """Carry a runner from moment start to moment stop."""
+    for step, part, rounds in pieces(track, start, stop):
         if part.body is None:
             runner.perform(part.instruction)
         else:
             runner.leap(part, rounds)
-    return runner

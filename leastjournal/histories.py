@@ -1,9 +1,25 @@
-"""The way back: the history that led to given registers and a given journal."""
+"""Histories: which values are histories, and the one that led to given registers and a given journal."""
 
-from leastjournal.field import weights
+from leastjournal.field import are_cells, weights
 from leastjournal.flows import zero_flow
 from leastjournal.programs import locate
 from leastjournal.tracks import product
+
+
+def is_history(p, n, reads, value):
+    """Whether any value is a history with n registers and this many inputs."""
+    return (
+        isinstance(value, tuple)
+        and len(value) == 2
+        and are_cells(p, value[0])
+        and are_cells(p, value[1])
+        and (len(value[0]), len(value[1])) == (n, reads)
+    )
+
+
+def as_history(n, unknowns):
+    """Return the history that has these unknowns."""
+    return tuple(unknowns[:n]), tuple(unknowns[n:])
 
 
 def history_of(track, program, moment, registers, journal):

@@ -10,7 +10,7 @@ from leastjournal.errors import (
     BadState,
     NoStep,
 )
-from leastjournal.field import is_between, is_prime
+from leastjournal.field import are_cells, is_between, is_prime
 from leastjournal.flows import Flow
 from leastjournal.forms import runner_at
 from leastjournal.histories import history_of
@@ -170,8 +170,3 @@ def is_state(p, program, value):
 def fits_registers(p, value):
     """Whether any value is a tuple of 1 to 8 field elements."""
     return are_cells(p, value) and 1 <= len(value) <= MAX_REGISTERS
-
-
-def are_cells(p, value):
-    """Whether any value is a tuple of field elements."""
-    return isinstance(value, tuple) and all([is_between(part, 0, p - 1) for part in value])

@@ -21,6 +21,11 @@ def overwritten(instruction):
     return None
 
 
+def cleared(row, x):
+    """Return the row with 0 at register x."""
+    return row[:x + 1] + [0] + row[x + 2:]
+
+
 def executed(p, instruction, row):
     """Return the row behind an instruction other than a loop or a read; a write changes nothing."""
     after = list(row)

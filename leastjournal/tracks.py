@@ -4,6 +4,7 @@ A loop that executes no reads and no writes is a piece as a whole, however many 
 are a power of one matrix. Loops that read or write have few rounds, and are taken apart.
 """
 
+from leastjournal.field import dot
 from leastjournal.programs import read_count, write_count
 from leastjournal.steps import executed, unit
 
@@ -46,7 +47,7 @@ class Part:
         """Return the weights that give, before this many rounds of the loop, what row gives behind them."""
         moved = row
         for matrix in self.factors(rounds):
-            moved = [sum([a * b for a, b in zip(image, moved)]) % self.p for image in matrix]
+            moved = [dot(self.p, image, moved) for image in matrix]
         return moved
 
     def factors(self, rounds):

@@ -124,3 +124,21 @@ def small_programs(many=120, longest_walk=400):
 def frozen(value):
     """Return a text that changes if any part of value changes."""
     return repr(value)
+
+
+def variants(value):
+    """Return values that differ from this one in one part: replaced, left out, repeated, exchanged or wrapped."""
+    found = [(value,), [value], None, {0: value}]
+    if isinstance(value, tuple):
+        found += [list(value), value + (0,), value + ((),), value + value[-1:], dict(enumerate(value))]
+        for at, part in enumerate(value):
+            before, after = value[:at], value[at + 1:]
+            found += [before + after, before + (part, part) + after]
+            found += [before + (new,) + after for new in variants(part)]
+            if after and after[0] != part:
+                found.append(before + (after[0], part) + after[1:])
+    elif isinstance(value, int) and not isinstance(value, bool):
+        found += [value + 1, value - 1, -value - 1, value + 10 ** 79, str(value), value == 1, value != 1]
+    elif isinstance(value, str):
+        found += [value.upper(), value + " ", value[1:], ""]
+    return found

@@ -226,3 +226,57 @@ def folded(program, least, period):
             part = ("loop", k, folded(part[2], least, period))
         parts.append(part)
     return tuple(parts)
+
+
+def is_quiet(part, words=("read", "write")):
+    """Whether an instruction executes no step with one of these words."""
+    if part[0] == "loop":
+        return part[1] == 0 or all(is_quiet(inner, words) for inner in part[2])
+    return part[0] not in words
+
+
+def great_pieces(program, moment):
+    """Yield what is executed before a moment: instructions, and (rounds, body) for rounds without reads and writes."""
+    for part in program:
+        many = min(moment, length(part))
+        moment -= many
+        if many and part[0] != "loop":
+            yield part
+        elif many:
+            once = sum(length(inner) for inner in part[2])
+            if is_quiet(part):
+                yield many // once, part[2]
+                yield from great_pieces(part[2], many % once)
+            else:
+                for turn in range(-(-many // once)):
+                    yield from great_pieces(part[2], min(once, many - turn * once))
+
+
+def great_run(p, program, registers, inputs, moment=None):
+    """Return (registers, outputs, inputs not read) at a moment, at the end if none is given, by powers of matrices."""
+    n = len(registers)
+    now, rest, written = list(registers), list(inputs), []
+    end = sum(length(part) for part in program)
+    for piece in great_pieces(program, end if moment is None else moment):
+        if isinstance(piece[0], str):
+            execute(p, piece, now, rest, written)
+        else:
+            matrix = loop_matrix(p, n, piece[1], piece[0])
+            now = [sum(a * b for a, b in zip(row, (1, *now))) % p for row in matrix[1:]]
+    return tuple(now), tuple(written), tuple(rest)
+
+
+def great_forms(p, n, program, moment, reads):
+    """Return the forms of all registers at a moment, with the numbers of this many inputs, by powers of matrices."""
+    one = [1] + [0] * (n + reads)
+    rows = identity(1 + n + reads)[1:n + 1]
+    taken = 0
+    for piece in great_pieces(program, moment):
+        if piece[0] == "read":
+            rows[piece[1]] = identity(1 + n + reads)[1 + n + taken]
+            taken += 1
+            continue
+        quiet = isinstance(piece[0], str)
+        matrix = step_matrix(p, n, piece) if quiet else loop_matrix(p, n, piece[1], piece[0])
+        rows = times(p, matrix[1:], [one, *rows])
+    return rows

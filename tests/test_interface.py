@@ -5,7 +5,7 @@ import inspect
 import pathlib
 import unittest
 
-from leastjournal import errors, field, forms, losses, machine, programs, runs
+from leastjournal import backward, errors, field, forms, losses, machine, plans, programs, readable, runs
 
 PACKAGE = pathlib.Path(__file__).resolve().parent.parent / "leastjournal"
 
@@ -42,6 +42,21 @@ FUNCTIONS = {
     },
     machine: {
         "resume": ("p", "program", "state"),
+    },
+    readable: {
+        "readable": ("p", "n", "program", "now", "then", "x"),
+        "shows_readable": ("p", "n", "program", "now", "then", "x", "value"),
+    },
+    plans: {
+        "is_plan": ("n", "program", "moment", "value"),
+        "own_plan": ("p", "n", "program", "moment"),
+        "sufficient": ("p", "n", "program", "moment", "plan"),
+        "unlike": ("p", "n", "program", "moment", "plan"),
+        "shows_unlike": ("p", "n", "program", "moment", "plan", "value"),
+        "shrunk": ("p", "n", "program", "moment", "plan"),
+    },
+    backward: {
+        "backward": ("p", "n", "program"),
     },
 }
 
