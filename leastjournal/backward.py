@@ -161,6 +161,6 @@ def alike(p, one, other):
 
 def repeated(rounds, body):
     """Return the body as a loop, if it needs one."""
-    if rounds == 1 or body == ():
+    if rounds == 1:
         return body
     return (("loop", rounds, body),)

@@ -24,10 +24,10 @@ class Differences:
         """Go on to a moment that is not before the present one."""
         for step, part, rounds in pieces(self.track, self.moment, moment):
             if self.hidden is None:
-                self.follow(part, rounds)
+                self.follow_piece(part, rounds)
         self.moment = moment
 
-    def follow(self, part, rounds):
+    def follow_piece(self, part, rounds):
         """Go on behind a piece of the run."""
         if part.body is not None:
             self.arrive([part.after(rounds, row) for row in self.directions])
@@ -35,7 +35,6 @@ class Differences:
             x = part.instruction[1]
             self.arrive([cleared(row, x) for row in self.directions])
             self.directions.append(unit(self.track.n + 1, x + 1))
-            self.trail.append(None)
         else:
             after = [executed(self.track.p, part.instruction, row) for row in self.directions]
             if overwritten(part.instruction) is None:
@@ -45,7 +44,7 @@ class Differences:
 
     def arrive(self, after):
         """Replace the directions by what they have become."""
-        if self.hidden is None and rank(self.track.p, after) < len(after):
+        if rank(self.track.p, after) < len(after):
             self.hidden = self.unknowns(dependence(self.track.p, after))
         self.directions = after
 
@@ -58,15 +57,12 @@ class Differences:
 
     def unknowns(self, amounts):
         """Return the unknowns up to this moment of the sum of the directions with these amounts."""
-        rest = list(amounts)
-        inputs = []
-        for taken in reversed(self.trail):
-            if taken is None:
-                inputs.append(rest.pop())
-            else:
-                at, factors = taken
-                rest.insert(at, -dot(self.track.p, factors, rest) % self.track.p)
-        return rest + inputs[::-1]
+        # A read adds its direction at the end, and dot stops where the factors end: so the directions that
+        # came later keep their places behind the others, and at last there is one for each unknown.
+        found = list(amounts)
+        for at, factors in reversed(self.trail):
+            found.insert(at, -dot(self.track.p, factors, found) % self.track.p)
+        return found
 
 
 def dependence(p, rows):
@@ -85,7 +81,7 @@ def cut(p, rows, place):
     The result is (at, factors, others): rows without the one at this index, which has been taken away from
     each of the others with one of the factors.
     """
-    leading = [at for at, row in enumerate(rows) if row[place] != 0]
+    leading = [index for index, row in enumerate(rows) if row[place] != 0]
     if leading == []:
         return None
     at = leading[0]

@@ -82,7 +82,7 @@ def shrunk(p, n, program, moment, plan):
     # An entry can be removed exactly if the registers at the moment and the entries before it tell
     # its value: those behind it that are left are independent of all that stands before them.
     track = Track(p, n, program)
-    told = told_by_end(track, moment, sorted(set([time for time, x in plan])))
+    told = told_by_end(track, moment, sorted(set([entry[0] for entry in plan])))
     differences = Differences(track)
     kept = []
     for time, x in plan:

@@ -5,7 +5,22 @@ import inspect
 import pathlib
 import unittest
 
-from leastjournal import backward, errors, field, forms, losses, machine, plans, programs, readable, runs
+from leastjournal import (
+    backward,
+    errors,
+    field,
+    forms,
+    losses,
+    machine,
+    plans,
+    programs,
+    readable,
+    reading,
+    runs,
+    same,
+    session,
+    showing,
+)
 
 PACKAGE = pathlib.Path(__file__).resolve().parent.parent / "leastjournal"
 
@@ -58,6 +73,16 @@ FUNCTIONS = {
     backward: {
         "backward": ("p", "n", "program"),
     },
+    same: {
+        "differ": ("p", "n", "one", "other"),
+        "shows_differ": ("p", "n", "one", "other", "value"),
+    },
+    showing: {
+        "show_program": ("program",),
+    },
+    reading: {
+        "read_program": ("p", "n", "text"),
+    },
 }
 
 CLASSES = {
@@ -78,6 +103,7 @@ CLASSES = {
         "NotEnough",
     ),
     machine: ("Machine",),
+    session: ("Session",),
 }
 
 METHODS = {
@@ -96,6 +122,10 @@ METHODS = {
         "goto": ("self", "moment"),
         "peek": ("self", "x", "moment"),
         "last_assignment": ("self", "x"),
+    },
+    session.Session: {
+        "__init__": ("self", "p", "text", "registers", "inputs"),
+        "run": ("self", "command"),
     },
 }
 
@@ -125,7 +155,8 @@ class InterfaceTest(unittest.TestCase):
         for kind, methods in METHODS.items():
             for name, arguments in methods.items():
                 self.assertEqual(tuple(inspect.signature(vars(kind)[name]).parameters), arguments, name)
-        self.assertEqual(inspect.signature(machine.Machine).parameters["inputs"].default, ())
+        for kind in METHODS:
+            self.assertEqual(inspect.signature(kind).parameters["inputs"].default, ())
 
     def test_modules_are_files_of_the_package(self):
         for module in (*FUNCTIONS, *CLASSES):
