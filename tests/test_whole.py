@@ -4,7 +4,7 @@ import random
 import unittest
 
 from leastjournal import backward, field, forms, losses, machine, plans, programs, readable, reading, runs, same, showing
-from leastjournal.errors import JournalError, NoStep
+from leastjournal.errors import NoStep
 from leastjournal.machine import Machine, resume
 from leastjournal.programs import is_program, locate, read_count, reads_before, step_count, write_count
 from leastjournal.same import differ
@@ -119,11 +119,6 @@ class NamesTest(unittest.TestCase):
                     self.assertTrue(one == other)
                 else:
                     self.assertEqual(one.run("show"), other.run(command="show"))
-
-    def test_errors_by_the_names_of_their_values(self):
-        for kind in JournalError.__subclasses__():
-            self.assertEqual(kind.__bases__, (JournalError,))
-        self.assertEqual(JournalError.__bases__, (ValueError,))
 
 
 class WholeTest(unittest.TestCase):
